@@ -1,0 +1,1 @@
+"""Orders of signs that nobody tells: terms, orders, facts and needs."""

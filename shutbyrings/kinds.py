@@ -1,0 +1,39 @@
+"""Kinds of plain values."""
+
+SMALL = "abcdefghijklmnopqrstuvwxyz"
+CAPITAL = "ABCDEFGHIJKLMNOPQRSTUVWXYZ"
+MOST_LETTERS = 8
+
+
+def is_whole(value):
+    """Whether a value is an integer, which True and False are not."""
+    return isinstance(value, int) and not isinstance(value, bool)
+
+
+def is_word(value, letters):
+    """Whether a value is a string of one to eight of the letters."""
+    if not isinstance(value, str) or not 1 <= len(value) <= MOST_LETTERS:
+        return False
+    return all([letter in letters for letter in value])
+
+
+def is_tuple_of(value, many):
+    """Whether a value is a tuple with so many items."""
+    return isinstance(value, tuple) and len(value) == many
+
+
+def is_list_of(value, many):
+    """Whether a value is a list with so many items."""
+    return isinstance(value, list) and len(value) == many
+
+
+def is_choice(value, names):
+    """Whether a value is a list of some of the names, each at most once."""
+    if not isinstance(value, list):
+        return False
+    met = {}
+    for name in value:
+        if not isinstance(name, str) or name not in names or name in met:
+            return False
+        met[name] = True
+    return True

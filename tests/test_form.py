@@ -1,0 +1,93 @@
+"""The form of the code: what can be seen at once of ../shared/LANGUAGE.md, and where the interface stands."""
+
+import ast
+import os
+import unittest
+
+PACKAGE = os.path.join(os.path.dirname(os.path.dirname(os.path.abspath(__file__))), 'shutbyrings')
+METHODS = set('''append clear copy count endswith extend find get index insert items join keys pop remove replace
+reverse rfind setdefault sort split startswith strip update upper lower values bit_length'''.split())
+BUILTINS = set('''len range enumerate zip min max sum abs sorted reversed int str bool list tuple dict set isinstance ord
+repr any all divmod super'''.split())
+INTERFACE = {
+    'terms.py': ['Signs', 'is_term', 'parts', 'variables', 'size', 'put'],
+    'orders.py': ['Order', 'steps', 'shows_steps'],
+    'facts.py': ['is_fact', 'opposite', 'follows', 'clash', 'shows_clash', 'order_of', 'fits', 'needs'],
+}
+LISTED = {'Signs': ['names', 'ways', 'arity', '__contains__', '__len__', '__eq__'],
+          'Order': ['names', 'lots', 'facts', '__call__', '__eq__']}
+
+
+def sources():
+    for name in sorted(os.listdir(PACKAGE)):
+        if name.endswith('.py'):
+            with open(os.path.join(PACKAGE, name), encoding='utf-8') as file:
+                yield name, file.read()
+
+
+class Form(unittest.TestCase):
+    def test_files(self):
+        names = [name for name in os.listdir(PACKAGE) if name != '__pycache__']
+        self.assertTrue(all(name.endswith('.py') and name == name.lower() for name in names))
+        self.assertIn('__init__.py', names)
+
+    def test_sizes_and_characters(self):
+        for name, text in sources():
+            lines = text.split('\n')
+            self.assertLessEqual(len(lines), 399, name)
+            self.assertTrue(all(len(line) <= 120 for line in lines), name)
+            self.assertTrue(all(letter == '\n' or ' ' <= letter <= '~' for letter in text), name)
+
+    def test_functions_are_small(self):
+        for name, text in sources():
+            for node in ast.walk(ast.parse(text)):
+                if isinstance(node, ast.FunctionDef):
+                    self.assertLessEqual(node.end_lineno - node.lineno + 1, 40, (name, node.name))
+
+    def test_imports_name_the_file_that_defines(self):
+        defined = {name[:-3]: set(top_names(ast.parse(text))) for name, text in sources()}
+        for name, text in sources():
+            for node in ast.walk(ast.parse(text)):
+                self.assertNotIsInstance(node, ast.Import, name)
+                if isinstance(node, ast.ImportFrom):
+                    self.assertTrue(node.module.startswith('shutbyrings.'), name)
+                    for alias in node.names:
+                        self.assertIn(alias.name, defined[node.module.split('.')[1]], name)
+
+    def test_statements_that_are_not_used(self):
+        for name, text in sources():
+            for node in ast.walk(ast.parse(text)):
+                self.assertNotIsInstance(node, (ast.Global, ast.Try, ast.With, ast.AsyncFunctionDef, ast.Div,
+                                                ast.GeneratorExp, ast.Yield, ast.YieldFrom), name)
+
+    def test_builtins_and_methods(self):
+        own = {node.name for _, text in sources() for node in ast.walk(ast.parse(text)) if isinstance(node, ast.FunctionDef)}
+        for name, text in sources():
+            tree = ast.parse(text)
+            known = set(top_names(tree)) | {a.asname or a.name for node in ast.walk(tree) if isinstance(node, ast.ImportFrom)
+                                            for a in node.names}
+            for node in ast.walk(tree):
+                if isinstance(node, ast.Call) and isinstance(node.func, ast.Name):
+                    self.assertTrue(node.func.id in known | BUILTINS | {'children', 'made'}, (name, node.func.id))
+                elif isinstance(node, ast.Call):
+                    self.assertIn(node.func.attr, METHODS | own, name)
+
+
+class Interface(unittest.TestCase):
+    def test_defined_in_their_files(self):
+        trees = {name: ast.parse(text) for name, text in sources()}
+        for name, names in INTERFACE.items():
+            for wanted in names:
+                self.assertIn(wanted, top_names(trees[name]), name)
+            for node in trees[name].body:
+                if isinstance(node, ast.ClassDef) and node.name in LISTED:
+                    self.assertLessEqual(set(LISTED[node.name]), {one.name for one in node.body if isinstance(one, ast.FunctionDef)})
+
+
+def top_names(tree):
+    found = [node.name for node in tree.body if isinstance(node, (ast.FunctionDef, ast.ClassDef))]
+    return found + [node.targets[0].id for node in tree.body if isinstance(node, ast.Assign)]
+
+
+if __name__ == '__main__':
+    unittest.main()

@@ -1,0 +1,53 @@
+"""Values of all kinds of point 3, and such that are made from others by small changes."""
+
+from shutbyrings.orders import Order
+from shutbyrings.terms import Signs
+
+
+def nested(levels, make):
+    told = make('X')
+    for _ in range(levels - 1):
+        told = make(told)
+    return told
+
+
+SIGNS = Signs([('f', 2), ('a', 0)])
+
+ODD = [
+    None, True, False, 0, 1, 2, -1, 10 ** 39, -10 ** 39, '', 'X', 'a', 'f', 'left', 'above', 'A' * 9, 'x y', 'a\n',
+    (), [], ('a',), ['a'], ('f',), ('f', 'X'), ('f', 'X', 'Y'), ['f', 'X', 'Y'], ('f', ['a'], 'X'), ((), ()), [[]],
+    ('a', 0), ('a', True), (('a',),), ('part', 0, None), ('ring', []), ('ways', 'f'), ('left', 'f'), ('left', ['f']),
+    ('above', 'f', 'a'), ('above', 'f'), {}, {'X': 'Y'}, SIGNS, Order(SIGNS, ['f', 'a'], []),
+    nested(30, lambda x: (x,)), nested(30, lambda x: [x]), nested(30, lambda x: ('f', x, [x])[:2]),
+    nested(5000, lambda x: ('f', x)), nested(5000, lambda x: ('part', 0, x)), [0] * 10000, ('f',) * 10000,
+]
+
+
+def changed(value):
+    """Values made from a value by one change somewhere in it."""
+    yield from (None, True, False, 0, 1, -1, 'X', 'part', (), [], (value,), [value])
+    if isinstance(value, bool) or value is None:
+        return
+    if isinstance(value, int):
+        yield from (value + 1, value - 1, bool(value), str(value))
+    elif isinstance(value, str):
+        yield from (value + 'x', value[:-1], [value], 'sign', 'left', 'lots')
+    elif isinstance(value, (tuple, list)):
+        yield from changed_row(value)
+
+
+def changed_row(row):
+    kind = type(row)
+    other = list if kind is tuple else tuple
+    items = list(row)
+    yield other(items)
+    yield kind(items[::-1])
+    yield kind(items + items[-1:])
+    yield kind(items + [None])
+    for k, item in enumerate(items):
+        yield kind(items[:k] + items[k + 1:])
+        yield kind(items[:k] + [item] + items[k:])
+        for told in changed(item):
+            yield kind(items[:k] + [told] + items[k + 1:])
+    for k in range(len(items) - 1):
+        yield kind(items[:k] + [items[k + 1], items[k]] + items[k + 2:])
