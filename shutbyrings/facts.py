@@ -101,7 +101,7 @@ def shows_clash(signs, facts, value):
         return False
     word, told = value
     if word == "ways":
-        return told in signs and ("left", told) in facts and ("lots", told) in facts
+        return ("left", told) in facts and ("lots", told) in facts
     return word == "ring" and isinstance(told, list) and _is_ring(facts, told)
 
 

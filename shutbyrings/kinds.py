@@ -28,12 +28,12 @@ def is_list_of(value, many):
 
 
 def is_choice(value, names):
-    """Whether a value is a list of some of the names, each at most once."""
+    """Whether a value is a list of some of a list of names, each at most once."""
     if not isinstance(value, list):
         return False
     met = {}
     for name in value:
-        if not isinstance(name, str) or name not in names or name in met:
+        if name not in names or name in met:
             return False
         met[name] = True
     return True

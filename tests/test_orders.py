@@ -331,6 +331,26 @@ class ShowingSteps(unittest.TestCase):
         self.assertFalse(shows_steps(LOTS, s, t, steps(LEFT, s, t)))
         self.assertFalse(shows_steps(LEFT, s, t, steps(LOTS, s, t)))
 
+    def test_nearly_right(self):
+        both = [('part', 1, None), ('part', 0, None)]
+        for order, s, t, value in (
+                (LEFT, B, A, ('sign', [])), (LEFT, B, A, ('none', [])), (LEFT, A, A, ('sign', [])), (LEFT, A, A, ('left', 0, None, [])),
+                (LOTS, ('f', 'X', 'Y'), ('f', 'Y', 'X'), ('lots', [], both)), (LOTS, ('f', A, A), ('f', A, A), ('lots', [], both)),
+                (LEFT, ('f', 'X', 'Y'), ('f', 'Y', 'X'), ('left', 0, None, both)), (LEFT, ('f', 'X', 'Y'), ('f', 'Y', 'X'), ('sign', both)),
+                (LEFT, ('h', 'Y', 'X', 'X'), ('f', 'X', 'Y'), ('left', 0, None, both[::-1])),
+                (LEFT, ('g', A), ('g', A), ('part', 0, ('part', 0, None))), (LEFT, 'X', 'X', ('part', 0, None)),
+                (LEFT, ('g', 'X'), 'Y', ('part', 0, None)), (LEFT, ('g', 'X'), 'Y', ('sign', [])),
+                (LEFT, ('g', 'X'), 'Y', ('left', 0, ('part', 0, None), [])), (LEFT, 'X', 'Y', ('sign', [])), (LEFT, 'X', A, ('sign', []))):
+            self.assertFalse(order(s, t))
+            self.assertFalse(shows_steps(order, s, t, value), (s, t, value))
+
+    def test_steps_of_other_pairs(self):
+        told = {(order.lots == [], s, t): steps(order, s, t) for order in (LEFT, LOTS) for s, t in self.PAIRS}
+        for order in (LEFT, LOTS):
+            for s, t in self.PAIRS + [(t, s) for s, t in self.PAIRS]:
+                for value in told.values():
+                    self.assertIs(shows_steps(order, s, t, value), plain.shows(order, s, t, value))
+
     def test_lists_are_new(self):
         for order in (LEFT, LOTS):
             for s, t in self.PAIRS:
