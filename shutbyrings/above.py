@@ -11,7 +11,7 @@ class Pair:
         self.s = self.store.take(s)
         self.t = self.store.take(t)
         self._rank = {name: place for place, name in enumerate(order.names)}
-        self._by_lots = {name: True for name in order.lots}
+        self._with_lots = {name: True for name in order.lots}
 
     def case_of(self, u, v):
         """The one case of point 5, besides (part), in which u may be above v, or "none"."""
@@ -19,7 +19,7 @@ class Pair:
         if f is None or g is None or u == v:
             return "none"
         if f == g:
-            return "lots" if f in self._by_lots else "left"
+            return "lots" if f in self._with_lots else "left"
         return "sign" if self._rank[f] < self._rank[g] else "none"
 
     def with_arguments(self, u, v):

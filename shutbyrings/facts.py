@@ -2,7 +2,7 @@
 
 from shutbyrings.errors import BadFact, NotPossible, NoTuple
 from shutbyrings.kinds import is_tuple_of
-from shutbyrings.needed import Needed
+from shutbyrings.needed import FactSets, Needed
 from shutbyrings.orders import Order
 from shutbyrings.terms import look_at_terms
 
@@ -85,13 +85,13 @@ def _sorted_out(signs, facts):
 
 
 def _ring(facts, rest):
-    """A ring among signs each of which has another one of them above it."""
-    path = [rest[0]]
+    """A shortest ring among signs each of which has another one of them above it."""
+    paths = [[f] for f in rest]
     while True:
-        higher = [f for f in _over(facts, path[-1]) if f in rest][0]
-        if higher in path:
-            return path[path.index(higher):][::-1]
-        path.append(higher)
+        paths = [path + [g] for path in paths for g in rest if g not in path and ("above", path[-1], g) in facts]
+        for path in paths:
+            if ("above", path[-1], path[0]) in facts:
+                return path
 
 
 def shows_clash(signs, facts, value):
@@ -128,4 +128,4 @@ def fits(order, facts):
 def needs(signs, s, t):
     """The ascending list of the needs of s above t, each an ascending tuple of facts."""
     look_at_terms(signs, s, t)
-    return Needed(signs, s, t).listed()
+    return Needed(FactSets(signs), s, t).listed()

@@ -10,6 +10,18 @@ def is_whole(value):
     return isinstance(value, int) and not isinstance(value, bool)
 
 
+def is_number(value, many):
+    """Whether a value is an integer from 0 on that is less than many."""
+    return is_whole(value) and 0 <= value < many
+
+
+def is_ascending(value, many):
+    """Whether a value is an ascending list of unlike integers from 0 on that are less than many."""
+    if not isinstance(value, list) or not all([is_number(number, many) for number in value]):
+        return False
+    return all([one < other for one, other in zip(value, value[1:])])
+
+
 def is_word(value, letters):
     """Whether a value is a string of one to eight of the letters."""
     if not isinstance(value, str) or not 1 <= len(value) <= MOST_LETTERS:

@@ -18,21 +18,29 @@ class FactSets:
     """Sets of facts of signs as integers, and families of such sets as lists."""
 
     def __init__(self, signs):
+        self.signs = signs
         self._all = all_facts(signs)
         self._bit = {fact: 1 << k for k, fact in enumerate(self._all)}
-        self._signs = signs.names
+        self._row = signs.names
         self._both = [self._bit[("left", f)] | self._bit[("lots", f)] for f in signs.ways]
-        self._over = {g: self.of([("above", f, g) for f in self._signs if f != g]) for g in self._signs}
-        self._under = {f: self.of([("above", f, g) for g in self._signs if f != g]) for f in self._signs}
+        self._over = {g: self.of([("above", f, g) for f in self._row if f != g]) for g in self._row}
+        self._under = {f: self.of([("above", f, g) for g in self._row if f != g]) for f in self._row}
         self._known = {}
 
     def of(self, facts):
-        """The set of unlike facts."""
-        return sum([self._bit[fact] for fact in facts])
+        """The set of facts, which may stand there more than once."""
+        told = 0
+        for fact in facts:
+            told = told | self._bit[fact]
+        return told
+
+    def told(self, many):
+        """The ascending tuple of the facts of a set."""
+        return tuple([fact for fact in self._all if self._bit[fact] & many])
 
     def listed(self, family):
         """The ascending list of the sets of a family, each an ascending tuple of facts."""
-        return sorted([tuple([fact for fact in self._all if self._bit[fact] & many]) for many in family])
+        return sorted([self.told(many) for many in family])
 
     def is_possible(self, many):
         """Whether some order fits a set."""
@@ -42,7 +50,7 @@ class FactSets:
         return self._known[many]
 
     def _has_no_ring(self, many):
-        rest = self._signs
+        rest = self._row
         while rest:
             stuck = [g for g in rest if many & self._over[g]]
             if len(stuck) == len(rest):
@@ -58,7 +66,7 @@ class FactSets:
         told = [0]
         for family in sorted(families, key=len):
             found = _unions(told, family)
-            told = least([many for many in found if self.is_possible(many) and not _has_part(known, many)])
+            told = least([many for many in found if self.is_possible(many) and not has_part(known, many)])
         return told
 
 
@@ -66,7 +74,7 @@ def _unions(one, other):
     """The unlike unions of a set of each of two families, without some that have another one as a part."""
     found = {}
     for many in one:
-        if _has_part(other, many):
+        if has_part(other, many):
             found[many] = True
         else:
             for more in other:
@@ -79,12 +87,13 @@ def least(family):
     kept = []
     for many in sorted(family):
         # A part of a set is a smaller integer, so it was met before.
-        if not _has_part(kept, many):
+        if not has_part(kept, many):
             kept.append(many)
     return kept
 
 
-def _has_part(family, many):
+def has_part(family, many):
+    """Whether a set of a family is a part of a set."""
     for other in family:
         if other & many == other:
             return True
@@ -94,21 +103,21 @@ def _has_part(family, many):
 class Needed:
     """The families of the sets by which the parts of s are above the parts of t."""
 
-    def __init__(self, signs, s, t):
-        self._sets = FactSets(signs)
+    def __init__(self, sets, s, t):
+        self._sets = sets
         self._store = Numbered()
         self._s = self._store.take(s)
         self._t = self._store.take(t)
-        self._rows = []
+        self._table = []
         columns = sorted(self._store.parts_of(self._t))
         for u in range(self._s + 1):
-            self._rows.append({})
+            self._table.append({})
             for v in columns:
-                self._rows[u][v] = self._family(u, v)
+                self._table[u][v] = self._family(u, v)
 
     def listed(self):
         """The needs of s above t."""
-        return self._sets.listed(self._rows[self._s][self._t])
+        return self._sets.listed(self._table[self._s][self._t])
 
     def _family(self, u, v):
         heads, places = self._store.heads, self._store.places
@@ -116,7 +125,7 @@ class Needed:
             return []
         if v in places[u]:
             return [0]
-        known = least([many for a in places[u] for many in self._rows[a][v]])
+        known = least([many for a in places[u] for many in self._table[a][v]])
         if heads[v] is None or 0 in known:
             return known
         return least(known + self._by_signs(u, v, known))
@@ -124,12 +133,12 @@ class Needed:
     def _by_signs(self, u, v, known):
         """The sets of the cases (sign), (left) and (lots)."""
         heads, places = self._store.heads, self._store.places
-        rest = [self._rows[u][b] for b in places[v]]
+        rest = [self._table[u][b] for b in places[v]]
         if heads[u] != heads[v]:
             return self._with_fact(("above", heads[u], heads[v]), rest, known)
         i = self._store.first_unlike(u, v)
         rest = [self._sets.joined(rest, known)]
-        first = rest + [self._rows[places[u][i]][places[v][i]]]
+        first = rest + [self._table[places[u][i]][places[v][i]]]
         if len(places[u]) == 1:
             return self._sets.joined(first, known)
         left = self._with_fact(("left", heads[u]), first, known)
@@ -142,7 +151,7 @@ class Needed:
         families = rest
         for j in over:
             pairs = [self._store.at(u, i, v, j) for i in kept]
-            families = families + [least([many for a, b in pairs for many in self._rows[a][b]])]
+            families = families + [least([many for a, b in pairs for many in self._table[a][b]])]
         return self._with_fact(("lots", self._store.heads[u]), families, known)
 
     def _with_fact(self, fact, families, known):

@@ -102,6 +102,11 @@ def _with_doubles(term):
     return met
 
 
+def spelled(term):
+    """The list of the signs and variables of a term, in an order that tells it from all others."""
+    return [part if isinstance(part, str) else part[0] for part in _with_doubles(term)]
+
+
 def put(term, given):
     """The term with the terms of a dict in the place of their variables."""
     return folded(term, arguments, lambda part, told: _put_whole(part, told, given))

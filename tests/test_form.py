@@ -8,13 +8,18 @@ PACKAGE = os.path.join(os.path.dirname(os.path.dirname(os.path.abspath(__file__)
 METHODS = set('''append clear copy count endswith extend find get index insert items join keys pop remove replace
 reverse rfind setdefault sort split startswith strip update upper lower values bit_length'''.split())
 BUILTINS = set('''len range enumerate zip min max sum abs sorted reversed int str bool list tuple dict set isinstance ord
-repr any all divmod super'''.split())
+repr any all divmod super TypeError'''.split())
 INTERFACE = {
     'terms.py': ['Signs', 'is_term', 'parts', 'variables', 'size', 'put'],
     'orders.py': ['Order', 'steps', 'shows_steps'],
+    'books.py': ['Book', 'unserved', 'verdict', 'shows_served', 'shows_shut'],
+    'compared.py': ['compared', 'shows_compared', 'fates', 'sure', 'shows_fate', 'implied', 'shows_implied'],
+    'least.py': ['least_drop', 'turns', 'forcing', 'shows_drop', 'shows_turns', 'shows_forcing'],
+    'numbers.py': ['all_orders', 'how_many', 'at_number', 'number_of'],
     'facts.py': ['is_fact', 'opposite', 'follows', 'clash', 'shows_clash', 'order_of', 'fits', 'needs'],
 }
 LISTED = {'Signs': ['names', 'ways', 'arity', '__contains__', '__len__', '__eq__'],
+          'Book': ['without', 'turned', '__add__', '__eq__', '__getitem__', '__len__', 'rules', 'barred', '__iter__'],
           'Order': ['names', 'lots', 'facts', '__call__', '__eq__']}
 
 
@@ -58,7 +63,39 @@ class Form(unittest.TestCase):
         for name, text in sources():
             for node in ast.walk(ast.parse(text)):
                 self.assertNotIsInstance(node, (ast.Global, ast.Try, ast.With, ast.AsyncFunctionDef, ast.Div,
-                                                ast.GeneratorExp, ast.Yield, ast.YieldFrom), name)
+                                                ast.GeneratorExp, ast.YieldFrom, ast.Set, ast.AugAssign), name)
+
+    def test_generators_are_iterated_by_others_alone(self):
+        named = {}
+        for name, text in sources():
+            for node in ast.walk(ast.parse(text)):
+                if isinstance(node, ast.FunctionDef) and any(isinstance(one, ast.Yield) for one in ast.walk(node)):
+                    named[node.name] = name
+        self.assertEqual(named, {'all_orders': 'numbers.py'})
+        for name, text in sources():
+            used = [node.id for node in ast.walk(ast.parse(text)) if isinstance(node, ast.Name)]
+            self.assertNotIn('all_orders', used, name)
+            self.assertEqual(text.count('def all_orders'), 1 if name == 'numbers.py' else 0)
+
+    def test_properties_are_no_attributes(self):
+        trees = [ast.parse(text) for _, text in sources()]
+        classes = [node for tree in trees for node in tree.body if isinstance(node, ast.ClassDef)]
+        methods = [one for node in classes for one in node.body if isinstance(one, ast.FunctionDef)]
+        properties = {one.name for one in methods if one.decorator_list}
+        assigned = {node.attr for tree in trees for node in ast.walk(tree)
+                    if isinstance(node, ast.Attribute) and isinstance(node.ctx, ast.Store)}
+        self.assertFalse(properties & assigned)
+        self.assertFalse({one.name for one in methods} & assigned)
+        self.assertFalse({one.name for one in methods if not one.decorator_list} & properties)
+
+    def test_no_module_imports_itself_through_others(self):
+        imports = {name: {node.module.split('.')[1] + '.py' for node in ast.walk(ast.parse(text))
+                          if isinstance(node, ast.ImportFrom)} for name, text in sources()}
+        reached = {name: set(told) for name, told in imports.items()}
+        for _ in imports:
+            for told in reached.values():
+                told.update(*[imports[other] for other in told])
+        self.assertFalse([name for name in reached if name in reached[name]])
 
     def test_builtins_and_methods(self):
         own = {node.name for _, text in sources() for node in ast.walk(ast.parse(text)) if isinstance(node, ast.FunctionDef)}
@@ -68,7 +105,7 @@ class Form(unittest.TestCase):
                                             for a in node.names}
             for node in ast.walk(tree):
                 if isinstance(node, ast.Call) and isinstance(node.func, ast.Name):
-                    self.assertTrue(node.func.id in known | BUILTINS | {'children', 'made'}, (name, node.func.id))
+                    self.assertTrue(node.func.id in known | BUILTINS | {'children', 'made', 'order'}, (name, node.func.id))
                 elif isinstance(node, ast.Call):
                     self.assertIn(node.func.attr, METHODS | own, name)
 

@@ -1,5 +1,6 @@
 """Values of all kinds of point 3, and such that are made from others by small changes."""
 
+from shutbyrings.books import Book
 from shutbyrings.orders import Order
 from shutbyrings.terms import Signs
 
@@ -19,6 +20,11 @@ ODD = [
     ('a', 0), ('a', True), (('a',),), ('part', 0, None), ('ring', []), ('ways', 'f'), ('left', 'f'), ('left', ['f']),
     ('above', 'f', 'a'), ('above', 'f'), {}, {'X': 'Y'}, SIGNS, Order(SIGNS, ['f', 'a'], []),
     nested(30, lambda x: (x,)), nested(30, lambda x: [x]), nested(30, lambda x: ('f', x, [x])[:2]),
+    Book(SIGNS, [], []), Book(SIGNS, [(('a',), 'X')], [(('f', 'X', 'Y'), 'X')]),
+    ('rule', 0, []), ('held', 0, 0), ('ways', ['f']), ('ring', ['f', 'a', 'f']), ('way', 'f', ('ways', 'f'), None),
+    ('above', 'f', 'a', ('ring', ['f', 'a']), ('ring', ['a', 'f'])), ('yes', []), ('no', ('ring', [])), ('yes',),
+    ('yes', [], Order(SIGNS, ['f', 'a'], []), [], []), (Order(SIGNS, ['f', 'a'], []), []), ((), SIGNS, [], []),
+    nested(5000, lambda x: ('rule', 0, [((), x)])), nested(5000, lambda x: ('way', 'f', x, x[:0])),
     nested(5000, lambda x: ('f', x)), nested(5000, lambda x: ('part', 0, x)), [0] * 10000, ('f',) * 10000,
 ]
 
@@ -30,10 +36,24 @@ def changed(value):
         return
     if isinstance(value, int):
         yield from (value + 1, value - 1, bool(value), str(value))
+    elif isinstance(value, Order):
+        yield from other_orders(value)
     elif isinstance(value, str):
         yield from (value + 'x', value[:-1], [value], 'sign', 'left', 'lots')
     elif isinstance(value, (tuple, list)):
         yield from changed_row(value)
+
+
+def other_orders(order):
+    """Orders of the same signs, and such of other signs."""
+    names, lots, ways = order.names, order.lots, order.signs.ways
+    yield Order(order.signs, names[::-1], lots)
+    yield Order(order.signs, names[1:] + names[:1], lots)
+    for f in ways:
+        yield Order(order.signs, names, [g for g in ways if (g in lots) != (g == f)])
+    more = Signs([(f, order.signs.arity(f)) for f in order.signs.names] + [('more', 0)])
+    yield Order(more, names + ['more'], lots)
+    yield Order(SIGNS, ['f', 'a'], [])
 
 
 def changed_row(row):
