@@ -7,8 +7,9 @@ import papers
 import plain
 from shutbyrings.books import Book, shows_served, shows_shut, unserved, verdict
 from shutbyrings.errors import BadBar, BadFact, BadRule, NoList, NoRule, NoTuple, Unlike
+from shutbyrings.facts import needs
 from shutbyrings.orders import Order, steps
-from shutbyrings.terms import Signs
+from shutbyrings.terms import Signs, put
 from values import ODD, changed, nested
 
 SIGNS = Signs([('f', 2), ('g', 1), ('a', 0)])
@@ -175,6 +176,35 @@ class Unserved(unittest.TestCase):
         self.assertIsNone(unserved(Order(same, ['a', 'b', 'c'], []), Book(FLAT, [], [])))
         turned = Signs([('b', 0), ('a', 0), ('c', 0)])
         raised(self, Unlike, unserved, Order(turned, ['a', 'b', 'c'], []), Book(FLAT, [], []))
+
+
+class Downhill(unittest.TestCase):
+    def test_exactly_if_all_facts_of_a_need_hold(self):
+        rng = random.Random(10)
+        for _ in range(150):
+            book = papers.drawn_book(rng)
+            for order in papers.orders_of(book.signs):
+                for s, t in book.rules + book.barred:
+                    told = any(papers.fits(order, need) for need in needs(book.signs, s, t))
+                    self.assertIs(order(s, t), told)
+                self.assertEqual(unserved(order, book) is None, papers.serves(order, book))
+
+    def test_a_step_goes_down(self):
+        rng = random.Random(9)
+        many = 0
+        for _ in range(200):
+            book = papers.drawn_book(rng)
+            for order in papers.serving(book)[:3]:
+                for s, t in book.rules:
+                    given = {name: plain.drawn(rng, book.signs, ['X', 'Z'], 2) for name in ('X', 'Y')}
+                    one, other = put(s, given), put(t, given)
+                    self.assertTrue(order(one, other))
+                    for f in book.signs.names:
+                        row = [plain.drawn(rng, book.signs, ['X', 'Z'], 2) for _ in range(book.signs.arity(f))]
+                        for k in range(len(row)):
+                            self.assertTrue(order((f, *row[:k], one, *row[k + 1:]), (f, *row[:k], other, *row[k + 1:])))
+                            many += 1
+        self.assertGreater(many, 200)
 
 
 class Verdicts(unittest.TestCase):
