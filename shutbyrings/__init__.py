@@ -1,1 +1,1 @@
-"""Orders of signs that nobody tells: terms, orders, facts and needs."""
+"""Orders of signs that nobody tells: terms, orders, facts, books of rules, and papers about them."""

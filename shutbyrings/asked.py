@@ -37,7 +37,9 @@ def asked_of(sets, rules, barred):
 
 
 def _needs_of(sets, pairs):
-    found = {}
-    for number, (left, right) in enumerate(pairs):
-        found[number] = [sets.of(need) for need in Needed(sets, left, right).listed()]
-    return found
+    return {number: needs_of(sets, pair) for number, pair in enumerate(pairs)}
+
+
+def needs_of(sets, pair):
+    """The needs of a pair, in their ascending order, as sets."""
+    return [sets.of(need) for need in Needed(sets, pair[0], pair[1]).listed()]

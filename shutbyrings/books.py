@@ -91,9 +91,14 @@ def _first_wrong(signs, pairs):
     if not isinstance(pairs, list):
         raise NoList()
     for number, pair in enumerate(pairs):
-        if not is_tuple_of(pair, 2) or not is_term(signs, pair[0]) or not is_term(signs, pair[1]):
+        if not is_pair(signs, pair):
             return number
     return None
+
+
+def is_pair(signs, value):
+    """Whether a value is a tuple of two terms."""
+    return is_tuple_of(value, 2) and is_term(signs, value[0]) and is_term(signs, value[1])
 
 
 def _spelled(pairs):

@@ -50,6 +50,10 @@ class Every:
             self._kept[facts] = told
         return self._kept[facts]
 
+    def where(self, fact):
+        """The orders in which a fact holds."""
+        return self.fitting(self._sets.of([fact]))
+
     def listed(self, orders):
         """The ascending list of the numbers of a set of orders."""
         return [number for number in range(orders.bit_length()) if (orders >> number) & 1]

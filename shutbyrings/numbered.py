@@ -55,6 +55,18 @@ class Numbered:
             self.places.append(tuple(places))
         return self._known[key]
 
+    def composed(self, head, places):
+        """The number of the term with a sign and, as its arguments, the terms with some numbers."""
+        known = self._known.get((head, *places))
+        if known is None:
+            known = self._take_whole((head, *[self.terms[a] for a in places]), places)
+        return known
+
+    def with_argument(self, number, i, other):
+        """The number of a term with another argument at a place."""
+        places = self.places[number]
+        return self.composed(self.heads[number], (*places[:i], other, *places[i + 1:]))
+
     def parts_of(self, number):
         """The numbers of the parts of a term, each where it is met first."""
         met = {}

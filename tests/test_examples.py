@@ -77,6 +77,50 @@ class Examples(unittest.TestCase):
             [how_many(book), at_number(book, 1).names, at_number(book, 1).lots, at_number(book, 2).names],
             [4, ['f', 'a'], ['f'], ['a', 'f']])
 
+    def test_stage_8(self):
+        from shutbyrings.books import Book
+        from shutbyrings.falls import longest_fall, next_steps
+        from shutbyrings.terms import Signs
+        signs = Signs([('s', 1), ('zero', 0)])
+        book = Book(signs, [(('s', 'X'), 'X')], [])
+        self.assertEqual(
+            [next_steps(book, ('s', ('s', ('zero',)))), len(longest_fall(book, ('s', ('s', ('zero',))))[0])],
+            [[((), 0, ('s', ('zero',))), ((0,), 0, ('s', ('zero',)))], 2])
+
+    def test_stage_9(self):
+        from shutbyrings.numbers import all_orders
+        from shutbyrings.terms import Signs
+        from shutbyrings.told import book_seen, parting
+        signs = Signs([('a', 0), ('b', 0), ('c', 0)])
+        book = book_seen(signs, [(('a',), ('b',), True), (('a',), ('c',), False)])
+        self.assertEqual(
+            [book.rules, book.barred, [order.names for order in all_orders(book)], parting(book, [('a',), ('b',), ('c',)])],
+            [[(('a',), ('b',))], [(('a',), ('c',))], [['c', 'a', 'b']], None])
+
+    def test_stage_10(self):
+        from shutbyrings.leads import Lead
+        from shutbyrings.terms import Signs
+        lead = Lead(Signs([('a', 0), ('b', 0)]))
+        first, fresh = lead.put((('a',), ('b',))), lead.claim(('above', 'b', 'a'))
+        self.assertEqual(
+            [first, fresh, lead.numbers, lead.facts, lead.verdict()[0]],
+            [0, True, [0], (('above', 'b', 'a'),), 'no'])
+
+    def test_stage_11(self):
+        from shutbyrings.terms import Signs
+        from shutbyrings.texts import read_book, read_term, show_term
+        signs = Signs([('plus', 2), ('s', 1)])
+        self.assertEqual(
+            [show_term(signs, ('plus', ('s', 'X'), 'Y')), read_term(signs, 's(plus(X, Y))'), read_book('sign a 0\nsign b 0\nrule a -> b').rules],
+            ['plus(s(X), Y)', ('s', ('plus', 'X', 'Y')), [(('a',), ('b',))]])
+
+    def test_stage_11_wrong(self):
+        from shutbyrings.errors import BadText
+        from shutbyrings.texts import read_book
+        with self.assertRaises(BadText) as caught:
+            read_book('sign a 0\nrule a -> b')
+        self.assertEqual(caught.exception.line, 2)
+
 
 if __name__ == '__main__':
     unittest.main()

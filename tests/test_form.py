@@ -16,10 +16,16 @@ INTERFACE = {
     'compared.py': ['compared', 'shows_compared', 'fates', 'sure', 'shows_fate', 'implied', 'shows_implied'],
     'least.py': ['least_drop', 'turns', 'forcing', 'shows_drop', 'shows_turns', 'shows_forcing'],
     'numbers.py': ['all_orders', 'how_many', 'at_number', 'number_of'],
+    'falls.py': ['matched', 'next_steps', 'longest_fall', 'shows_fall', 'shows_longest'],
+    'told.py': ['book_seen', 'parting'],
+    'leads.py': ['Lead'],
+    'texts.py': ['show_term', 'show_book', 'show_facts', 'show_order', 'read_term', 'read_book', 'read_facts', 'read_order'],
     'facts.py': ['is_fact', 'opposite', 'follows', 'clash', 'shows_clash', 'order_of', 'fits', 'needs'],
 }
 LISTED = {'Signs': ['names', 'ways', 'arity', '__contains__', '__len__', '__eq__'],
           'Book': ['without', 'turned', '__add__', '__eq__', '__getitem__', '__len__', 'rules', 'barred', '__iter__'],
+          'Lead': ['put', 'bar', 'withdraw', 'claim', 'give_up', 'mark', 'back_to', 'sure_now', 'verdict', 'shows_shut', 'copy',
+                   'numbers', 'facts', 'book', 'changed', '__contains__', '__getitem__', '__len__', '__iter__'],
           'Order': ['names', 'lots', 'facts', '__call__', '__eq__']}
 
 

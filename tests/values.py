@@ -1,8 +1,16 @@
 """Values of all kinds of point 3, and such that are made from others by small changes."""
 
 from shutbyrings.books import Book
+from shutbyrings.leads import Lead
 from shutbyrings.orders import Order
 from shutbyrings.terms import Signs
+
+
+def raised(self, kind, call, *given, **named):
+    """The error that a call raises, which is of a kind."""
+    with self.assertRaises(kind) as caught:
+        call(*given, **named)
+    return caught.exception
 
 
 def nested(levels, make):
@@ -20,7 +28,7 @@ ODD = [
     ('a', 0), ('a', True), (('a',),), ('part', 0, None), ('ring', []), ('ways', 'f'), ('left', 'f'), ('left', ['f']),
     ('above', 'f', 'a'), ('above', 'f'), {}, {'X': 'Y'}, SIGNS, Order(SIGNS, ['f', 'a'], []),
     nested(30, lambda x: (x,)), nested(30, lambda x: [x]), nested(30, lambda x: ('f', x, [x])[:2]),
-    Book(SIGNS, [], []), Book(SIGNS, [(('a',), 'X')], [(('f', 'X', 'Y'), 'X')]),
+    Book(SIGNS, [], []), Lead(SIGNS), {'X': ('f', 'X', 'Y'), 'Y': []}, Book(SIGNS, [(('a',), 'X')], [(('f', 'X', 'Y'), 'X')]),
     ('rule', 0, []), ('held', 0, 0), ('ways', ['f']), ('ring', ['f', 'a', 'f']), ('way', 'f', ('ways', 'f'), None),
     ('above', 'f', 'a', ('ring', ['f', 'a']), ('ring', ['a', 'f'])), ('yes', []), ('no', ('ring', [])), ('yes',),
     ('yes', [], Order(SIGNS, ['f', 'a'], []), [], []), (Order(SIGNS, ['f', 'a'], []), []), ((), SIGNS, [], []),
